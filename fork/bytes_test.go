@@ -9,6 +9,7 @@ import (
 	"testing"
 
 	"trustflow/api"
+	"trustflow/sample"
 	"trustflow/statement"
 )
 
@@ -29,7 +30,7 @@ func bytesOf(t *testing.T, s api.Statement) []byte {
 	t.Helper()
 	b, err := statement.Encode(s)
 	if err != api.OK {
-		t.Fatalf("the statement %s has no bytes: error %d", brief(list(s)), err)
+		t.Fatalf("the statement %s has no bytes: error %d", sample.Brief(list(s)), err)
 	}
 	return b
 }
@@ -126,7 +127,7 @@ func TestDecodeOfNoEvidence(t *testing.T) {
 	expectNone(t, "the first one twice", texts(a, a))
 	expectNone(t, "the second one twice", texts(b, b))
 	for value := range 20 {
-		for _, s := range list(said(me+1, 3, value), said(me-1, 3, value), said(me, 2, value), said(me, 4, value)) {
+		for _, s := range list(sample.Said(me+1, 3, value), sample.Said(me-1, 3, value), sample.Said(me, 2, value), sample.Said(me, 4, value)) {
 			other := two(f.First, s)
 			expectNone(t, "not two faces", texts(bytesOf(t, other.First), bytesOf(t, other.Second)))
 		}

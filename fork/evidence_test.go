@@ -7,6 +7,7 @@ import (
 	"testing"
 
 	"trustflow/api"
+	"trustflow/sample"
 	"trustflow/statement"
 )
 
@@ -26,7 +27,7 @@ func expectCheck(t *testing.T, name string, f api.Fork, want api.Errno) {
 }
 
 // pair is evidence.
-func pair() api.Fork { return two(said(me, 3, 1), said(me, 3, 2)) }
+func pair() api.Fork { return two(sample.Said(me, 3, 1), sample.Said(me, 3, 2)) }
 
 // fullest is evidence with as much in it as is permitted.
 func fullest() api.Fork {
@@ -40,27 +41,27 @@ func fullest() api.Fork {
 		s.Pins, s.Body = pins, strings.Repeat("\x80", api.MaxBody)
 	}
 	last := api.MaxKeys - 1
-	return two(changed(said(last, 199, 1), fill), changed(said(last, 199, 2), fill))
+	return two(changed(sample.Said(last, 199, 1), fill), changed(sample.Said(last, 199, 2), fill))
 }
 
 // evidence are pairs of statements that prove a fork.
 func evidence() map[string]api.Fork {
-	a := said(me, 3, 1)
+	a := sample.Said(me, 3, 1)
 	with := func(change func(*api.Statement)) api.Fork { return two(a, changed(a, change)) }
 	vouch := statement.Seal(api.Statement{Time: 7, Kind: api.KindVouch, A: 1, B: 1, C: 9})
 	return map[string]api.Fork{
 		"two values":             pair(),
-		"two first ones":         two(said(0, 0, 1), said(0, 0, 2)),
-		"two last ones":          two(said(63, 199, 1), said(63, 199, 2)),
+		"two first ones":         two(sample.Said(0, 0, 1), sample.Said(0, 0, 2)),
+		"two last ones":          two(sample.Said(63, 199, 1), sample.Said(63, 199, 2)),
 		"two times":              with(func(s *api.Statement) { s.Time = 0 }),
 		"two kinds":              with(func(s *api.Statement) { s.Kind = api.MaxKind }),
 		"two Prevs":              with(func(s *api.Statement) { s.Prev = strings.Repeat("q", 32) }),
 		"two bodies":             with(func(s *api.Statement) { s.Body = "\x00" }),
 		"one resigns":            with(func(s *api.Statement) { s.Kind, s.A = api.KindResign, 0 }),
 		"both vouch":             two(vouch, changed(vouch, func(s *api.Statement) { s.A = 2 })),
-		"one vouches":            two(vouch, said(0, 0, 1)),
+		"one vouches":            two(vouch, sample.Said(0, 0, 1)),
 		"both with all they can": fullest(),
-		"one with all it can":    two(fullest().First, said(63, 199, 1)),
+		"one with all it can":    two(fullest().First, sample.Said(63, 199, 1)),
 	}
 }
 
@@ -71,7 +72,7 @@ func TestCheck(t *testing.T) {
 		expectCheck(t, name+", turned", turned(f), api.ErrEvidence)
 	}
 	for value := range 50 {
-		f := two(said(me, 0, value), said(me, 0, value+1))
+		f := two(sample.Said(me, 0, value), sample.Said(me, 0, value+1))
 		expectCheck(t, "any two", f, api.OK)
 		expectCheck(t, "any two, turned", turned(f), api.ErrEvidence)
 	}
@@ -81,7 +82,7 @@ func TestCheck(t *testing.T) {
 func TestCheckComparesUnsigned(t *testing.T) {
 	var low, high []api.Statement
 	for value := range 40 {
-		if s := said(me, 0, value); s.Seal.Digest[0] < 0x80 {
+		if s := sample.Said(me, 0, value); s.Seal.Digest[0] < 0x80 {
 			low = append(low, s)
 		} else {
 			high = append(high, s)
@@ -98,20 +99,20 @@ func TestCheckComparesUnsigned(t *testing.T) {
 
 // P6.2: ErrEvidence, if two sealed statements are not two faces of one author.
 func TestCheckErrEvidence(t *testing.T) {
-	a := said(me, 3, 1)
+	a := sample.Said(me, 3, 1)
 	empty := a
 	empty.List, empty.Pins = []int{}, []api.Pin{}
 	expectCheck(t, "a statement twice", api.Fork{First: a, Second: a}, api.ErrEvidence)
 	expectCheck(t, "a statement, and with empty lists", api.Fork{First: a, Second: empty}, api.ErrEvidence)
 	// Of many, so that neither author nor number is found only by the digests.
 	for value := range 20 {
-		expectCheck(t, "two authors", two(a, said(me+1, 3, value)), api.ErrEvidence)
-		expectCheck(t, "two authors", two(a, said(me-1, 3, value)), api.ErrEvidence)
-		expectCheck(t, "two numbers", two(a, said(me, 4, value)), api.ErrEvidence)
-		expectCheck(t, "two numbers", two(a, said(me, 2, value)), api.ErrEvidence)
-		expectCheck(t, "two authors and numbers", two(a, said(me+1, 4, value)), api.ErrEvidence)
+		expectCheck(t, "two authors", two(a, sample.Said(me+1, 3, value)), api.ErrEvidence)
+		expectCheck(t, "two authors", two(a, sample.Said(me-1, 3, value)), api.ErrEvidence)
+		expectCheck(t, "two numbers", two(a, sample.Said(me, 4, value)), api.ErrEvidence)
+		expectCheck(t, "two numbers", two(a, sample.Said(me, 2, value)), api.ErrEvidence)
+		expectCheck(t, "two authors and numbers", two(a, sample.Said(me+1, 4, value)), api.ErrEvidence)
 	}
-	l := rowOf(me, 2)
+	l := sample.Row(me, 2)
 	expectCheck(t, "one behind the other", api.Fork{First: l[0], Second: l[1]}, api.ErrEvidence)
 	expectCheck(t, "one behind the other", api.Fork{First: l[1], Second: l[0]}, api.ErrEvidence)
 }
@@ -181,8 +182,8 @@ func TestCheckErrSeal(t *testing.T) {
 		expectCheck(t, "the first one: "+name, api.Fork{First: wrong, Second: f.Second}, api.ErrSeal)
 		expectCheck(t, "turned: "+name, api.Fork{First: f.Second, Second: wrong}, api.ErrSeal)
 		expectCheck(t, "twice: "+name, api.Fork{First: wrong, Second: wrong}, api.ErrSeal)
-		expectCheck(t, "another author's: "+name, api.Fork{First: wrong, Second: said(me+1, 3, 1)}, api.ErrSeal)
-		expectCheck(t, "another number: "+name, api.Fork{First: said(me, 4, 1), Second: wrong}, api.ErrSeal)
+		expectCheck(t, "another author's: "+name, api.Fork{First: wrong, Second: sample.Said(me+1, 3, 1)}, api.ErrSeal)
+		expectCheck(t, "another number: "+name, api.Fork{First: sample.Said(me, 4, 1), Second: wrong}, api.ErrSeal)
 	}
 	for name, wrong := range unsealed(f.Second) {
 		expectCheck(t, "the second one: "+name, api.Fork{First: f.First, Second: wrong}, api.ErrSeal)

@@ -7,33 +7,34 @@ import (
 	"testing"
 
 	"trustflow/api"
+	"trustflow/sample"
 	"trustflow/statement"
 	"trustflow/store"
 )
 
 // P6.1: without two statements with one number of one author there is no fork.
 func TestNoForks(t *testing.T) {
-	l := rowOf(me, 6)
+	l := sample.Row(me, 6)
 	expectForks(t, "nil", api.Store{})
 	expectForks(t, "empty", api.Store{Statements: list()})
 	expectForks(t, "one statement", storeOf(t, l[:1]))
 	expectForks(t, "a row", storeOf(t, l))
-	expectForks(t, "a whole chain", storeOf(t, rowOf(me, api.MaxChain)))
+	expectForks(t, "a whole chain", storeOf(t, sample.Row(me, api.MaxChain)))
 	expectForks(t, "a gap", storeOf(t, l[:2], l[4:]))
 	expectForks(t, "no beginning", storeOf(t, l[3:]))
-	expectForks(t, "statements that follow nothing", storeOf(t, list(said(me, 0, 1), said(me, 1, 1), said(me, 2, 1))))
-	expectForks(t, "one number of two authors", storeOf(t, list(said(me, 3, 1), said(me+1, 3, 2), said(me-1, 3, 3))))
-	expectForks(t, "one statement with two numbers", storeOf(t, list(said(me, 3, 1), said(me, 4, 1))))
+	expectForks(t, "statements that follow nothing", storeOf(t, list(sample.Said(me, 0, 1), sample.Said(me, 1, 1), sample.Said(me, 2, 1))))
+	expectForks(t, "one number of two authors", storeOf(t, list(sample.Said(me, 3, 1), sample.Said(me+1, 3, 2), sample.Said(me-1, 3, 3))))
+	expectForks(t, "one statement with two numbers", storeOf(t, list(sample.Said(me, 3, 1), sample.Said(me, 4, 1))))
 	var all []api.Statement
 	for author := range api.MaxKeys {
-		all = append(all, rowOf(author, 3)...)
+		all = append(all, sample.Row(author, 3)...)
 	}
 	expectForks(t, "all authors", storeOf(t, all))
 }
 
 // P6.1: the chapter's example.
 func TestExample(t *testing.T) {
-	a := said(3, 1, 0)
+	a := sample.Said(3, 1, 0)
 	b := changed(a, func(s *api.Statement) { s.Time++ })
 	s := storeOf(t, list(a, b))
 	if g, n := Guilty(s), From(s, 3); !slices.Equal(g, []int{3}) || n != 1 {
@@ -46,15 +47,15 @@ func TestExample(t *testing.T) {
 func TestForks(t *testing.T) {
 	for _, author := range []int{0, 1, me, 62, 63} {
 		for _, number := range []int{0, 1, 2, 100, 198, 199} {
-			a, b := said(author, number, 1), said(author, number, 2)
+			a, b := sample.Said(author, number, 1), sample.Said(author, number, 2)
 			expectForks(t, "two faces", storeOf(t, list(a, b)), two(a, b))
-			others := together(rowOf((author+1)%api.MaxKeys, 3), rowOf((author+63)%api.MaxKeys, 3))
+			others := together(sample.Row((author+1)%api.MaxKeys, 3), sample.Row((author+63)%api.MaxKeys, 3))
 			expectForks(t, "two faces among others", storeOf(t, list(a, b), others), two(a, b))
 		}
 	}
-	l := rowOf(me, 6)
+	l := sample.Row(me, 6)
 	for i, a := range l {
-		b := said(me, i, 99)
+		b := sample.Said(me, i, 99)
 		expectForks(t, "a row with another face", storeOf(t, l, list(b)), two(a, b))
 		expectForks(t, "no beginning", storeOf(t, l[i:], list(b)), two(a, b))
 		expectForks(t, "no end", storeOf(t, l[:i+1], list(b)), two(a, b))
@@ -63,7 +64,7 @@ func TestForks(t *testing.T) {
 
 // P6.1: two statements are different, whatever it is that they say differently.
 func TestForksOfAnyDifference(t *testing.T) {
-	a := changed(said(me, 2, 7), func(s *api.Statement) { s.List = []int{1, 2} })
+	a := changed(sample.Said(me, 2, 7), func(s *api.Statement) { s.List = []int{1, 2} })
 	for name, change := range map[string]func(*api.Statement){
 		"Prev":        func(s *api.Statement) { s.Prev = strings.Repeat("q", 32) },
 		"Time":        func(s *api.Statement) { s.Time++ },
@@ -107,13 +108,13 @@ func TestForksOfSeveral(t *testing.T) {
 	}
 	expectForks(t, "all authors", storeOf(t, l), want...)
 	a, b, c := facesOf(2, 6, 2), facesOf(40, 0, 3), facesOf(63, 2, 2)
-	s := storeOf(t, c, rowOf(30, 4), b, rowOf(0, 2), a, rowOf(41, 1))
+	s := storeOf(t, c, sample.Row(30, 4), b, sample.Row(0, 2), a, sample.Row(41, 1))
 	expectForks(t, "some authors", s, two(a...), two(b...), two(c...))
 }
 
 // P6.1: a fork that nothing counted leads to is one: behind a gap, past a resignation, behind another fork.
 func TestForksThatDoNotCount(t *testing.T) {
-	l := rowOf(me, 3)
+	l := sample.Row(me, 3)
 	end := statement.Seal(api.Statement{Author: me, Number: 3, Prev: l[2].Seal.Digest, Time: 50, Kind: api.KindResign})
 	far := facesOf(me, 50, 2)
 	expectForks(t, "behind a gap", storeOf(t, l, far), two(far...))
@@ -164,7 +165,7 @@ func anyStore(t *testing.T, r *rand.Rand) api.Store {
 	t.Helper()
 	var l []api.Statement
 	for range r.Intn(28) {
-		l = append(l, said(me+r.Intn(4), r.Intn(6), r.Intn(3)))
+		l = append(l, sample.Said(me+r.Intn(4), r.Intn(6), r.Intn(3)))
 	}
 	return storeOf(t, l)
 }
@@ -204,7 +205,7 @@ func TestForksStay(t *testing.T) {
 			case before < 0 && after >= 0:
 				came++
 			case before >= 0 && (after < 0 || after > before):
-				t.Errorf("the fork of %d in %s is from %d, in %s from %d", author, brief(s.Statements), before, brief(more.Statements), after)
+				t.Errorf("the fork of %d in %s is from %d, in %s from %d", author, sample.Brief(s.Statements), before, sample.Brief(more.Statements), after)
 			case after < before:
 				fell++
 			}
@@ -218,10 +219,10 @@ func TestForksStay(t *testing.T) {
 // Consequences: who never seals two statements with one number is never guilty, whatever others put into the store.
 func TestHonestMembers(t *testing.T) {
 	r := rand.New(rand.NewSource(3))
-	honest := storeOf(t, rowOf(me+4, 12))
+	honest := storeOf(t, sample.Row(me+4, 12))
 	for range 200 {
 		s := honest
-		for _, x := range shuffled(r, together(anyStore(t, r).Statements, rowOf(me+4, 12))) {
+		for _, x := range shuffled(r, together(anyStore(t, r).Statements, sample.Row(me+4, 12))) {
 			forged := x
 			forged.Author = me + 4
 			for _, y := range list(x, forged) {
@@ -229,14 +230,14 @@ func TestHonestMembers(t *testing.T) {
 			}
 		}
 		if From(s, me+4) != -1 || slices.Contains(Guilty(s), me+4) {
-			t.Errorf("an honest member is guilty in %s", brief(s.Statements))
+			t.Errorf("an honest member is guilty in %s", sample.Brief(s.Statements))
 		}
 	}
 }
 
 // P1: what is specified for valid stores alone comes to an end for others too, without a panic.
 func TestInvalidStores(t *testing.T) {
-	a, b := said(me, 3, 1), said(me, 3, 2)
+	a, b := sample.Said(me, 3, 1), sample.Said(me, 3, 2)
 	unsealed, wild, high := a, a, b
 	unsealed.Seal = api.Seal{}
 	wild.Author, wild.Kind = -1, 77

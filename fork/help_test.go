@@ -1,16 +1,13 @@
 package fork
 
 import (
-	"cmp"
 	"math"
 	"math/rand"
 	"slices"
-	"strconv"
-	"strings"
 	"testing"
 
 	"trustflow/api"
-	"trustflow/chain"
+	"trustflow/sample"
 	"trustflow/statement"
 	"trustflow/store"
 )
@@ -20,15 +17,6 @@ const me = 5
 
 // nobody are numbers that are no keys.
 var nobody = []int{-1, api.MaxKeys, 1 << 40, math.MinInt, math.MaxInt}
-
-// said is a sealed statement, unlike others of other values. What stands before it, if anything, is not known.
-func said(author, number, value int) api.Statement {
-	s := api.Statement{Author: author, Number: number, Time: 10, Kind: api.KindOther, A: value}
-	if number > 0 {
-		s.Prev = strings.Repeat("p", 32)
-	}
-	return statement.Seal(s)
-}
 
 // changed is a statement with a change, and the right seal for it.
 func changed(s api.Statement, change func(*api.Statement)) api.Statement {
@@ -42,21 +30,11 @@ func list(s ...api.Statement) []api.Statement { return s }
 // together are several lists as one, in new memory.
 func together(lists ...[]api.Statement) []api.Statement { return slices.Concat(lists...) }
 
-// rowOf is so many statements of an author that follow one another.
-func rowOf(author, n int) []api.Statement {
-	var l []api.Statement
-	for i := range n {
-		s, _ := chain.Next(author, l, api.Statement{Time: 10 + i, Kind: api.KindOther, A: i})
-		l = append(l, s)
-	}
-	return l
-}
-
 // facesOf is so many different statements of an author with one number.
 func facesOf(author, number, n int) []api.Statement {
 	var l []api.Statement
 	for i := range n {
-		l = append(l, said(author, number, 1000+i))
+		l = append(l, sample.Said(author, number, 1000+i))
 	}
 	return l
 }
@@ -64,13 +42,9 @@ func facesOf(author, number, n int) []api.Statement {
 // storeOf is the valid store with the statements of several lists, each once.
 func storeOf(t *testing.T, lists ...[]api.Statement) api.Store {
 	t.Helper()
-	s := api.Store{Statements: together(lists...)}
-	slices.SortFunc(s.Statements, func(a, b api.Statement) int {
-		return cmp.Or(a.Author-b.Author, a.Number-b.Number, byDigest(a, b))
-	})
-	s.Statements = slices.CompactFunc(s.Statements, statement.Same)
+	s := sample.Store(lists...)
 	if !store.Valid(s) {
-		t.Fatalf("the store of %s is not valid", brief(s.Statements))
+		t.Fatalf("the store of %s is not valid", sample.Brief(s.Statements))
 	}
 	return s
 }
@@ -85,15 +59,10 @@ func merged(t *testing.T, a, b api.Store) api.Store {
 	return s
 }
 
-// byDigest is the order of digests of sealed statements, of which each byte is compared as an unsigned number.
-func byDigest(a, b api.Statement) int {
-	return slices.Compare([]byte(a.Seal.Digest), []byte(b.Seal.Digest))
-}
-
 // two is the evidence that different sealed statements of one author with one number are: the two with the least digests.
 func two(l ...api.Statement) api.Fork {
 	l = slices.Clone(l)
-	slices.SortFunc(l, byDigest)
+	slices.SortFunc(l, sample.Order)
 	return api.Fork{First: l[0], Second: l[1]}
 }
 
@@ -105,23 +74,13 @@ func isFork(a, b api.Fork) bool {
 	return statement.Same(a.First, b.First) && statement.Same(a.Second, b.Second)
 }
 
-// brief shows a list: of each statement the author, the number, what it says and the first byte of its seal.
-func brief(l []api.Statement) string {
-	var b strings.Builder
-	for _, s := range l {
-		seal := s.Seal.Digest + "\x00"
-		b.WriteString(" " + strconv.Itoa(s.Author) + "." + strconv.Itoa(s.Number) + ":" + strconv.Itoa(s.A) + "/" + strconv.Itoa(int(seal[0])))
-	}
-	return "[" + b.String() + " ]"
-}
-
 // briefForks shows forks.
 func briefForks(l []api.Fork) string {
 	var all []api.Statement
 	for _, f := range l {
 		all = append(all, f.First, f.Second)
 	}
-	return brief(all)
+	return sample.Brief(all)
 }
 
 // shuffled is a list in another order.
@@ -137,7 +96,7 @@ func expectForks(t *testing.T, name string, s api.Store, want ...api.Fork) {
 	memory := slices.Clone(s.Statements)
 	got := Find(s)
 	if !slices.EqualFunc(got, want, isFork) {
-		t.Errorf("%s: of %s the forks are %s, want %s", name, brief(memory), briefForks(got), briefForks(want))
+		t.Errorf("%s: of %s the forks are %s, want %s", name, sample.Brief(memory), briefForks(got), briefForks(want))
 	}
 	var guilty []int
 	from := map[int]int{}
@@ -149,7 +108,7 @@ func expectForks(t *testing.T, name string, s api.Store, want ...api.Fork) {
 		}
 	}
 	if got := Guilty(s); !slices.Equal(got, guilty) {
-		t.Errorf("%s: guilty of %s are %v, want %v", name, brief(memory), got, guilty)
+		t.Errorf("%s: guilty of %s are %v, want %v", name, sample.Brief(memory), got, guilty)
 	}
 	for author := range api.MaxKeys {
 		number, ok := from[author]
