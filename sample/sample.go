@@ -8,7 +8,6 @@ import (
 	"strings"
 
 	"trustflow/api"
-	"trustflow/chain"
 	"trustflow/statement"
 )
 
@@ -30,7 +29,10 @@ func After(s api.Statement, kind, value int) api.Statement {
 func Row(author, n int) []api.Statement {
 	var l []api.Statement
 	for i := range n {
-		s, _ := chain.Next(author, l, api.Statement{Time: 10 + i, Kind: api.KindOther, A: i})
+		s := Said(author, 0, 0)
+		if i > 0 {
+			s = After(l[i-1], api.KindOther, i)
+		}
 		l = append(l, s)
 	}
 	return l

@@ -1,10 +1,14 @@
 package sample
 
 import (
+	"math/rand"
+	"slices"
 	"testing"
 
 	"trustflow/api"
 	"trustflow/chain"
+	"trustflow/fork"
+	"trustflow/statement"
 	"trustflow/store"
 )
 
@@ -23,5 +27,35 @@ func TestStores(t *testing.T) {
 	s := Store(l[2:], Row(3, 2), l, []api.Statement{Said(5, 1, 9), Said(63, 0, 1), Said(5, 1, 8)})
 	if !store.Valid(s) || len(s.Statements) != 9 {
 		t.Errorf("%s is no store of 9 statements", Brief(s.Statements))
+	}
+}
+
+// Trees have forks, resignations, gaps and beginnings that are missing, and parts of them are different valid stores.
+func TestTrees(t *testing.T) {
+	r := rand.New(rand.NewSource(1))
+	forks, loose, different := 0, 0, 0
+	for range 100 {
+		all := Tree(9, r.Intn)
+		a, b := Part(r.Intn, all), Part(r.Intn, all)
+		if !store.Valid(Store(all)) || !store.Valid(a) || !store.Valid(b) {
+			t.Fatalf("a part of %s is no store", Brief(all))
+		}
+		forks += len(fork.Find(a))
+		loose += len(a.Statements) - len(store.Counted(a))
+		if !slices.EqualFunc(a.Statements, b.Statements, statement.Same) {
+			different++
+		}
+	}
+	if forks < 20 || loose < 50 || different < 90 {
+		t.Errorf("the parts show too little: %d forks, %d statements that do not count, %d pairs that are different", forks, loose, different)
+	}
+}
+
+// No wild store is valid.
+func TestWildStores(t *testing.T) {
+	for name, s := range WildStores() {
+		if store.Valid(s) {
+			t.Errorf("%s: the store is valid", name)
+		}
 	}
 }

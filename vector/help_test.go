@@ -3,7 +3,6 @@ package vector
 import (
 	"crypto/sha256"
 	"math"
-	"math/rand"
 	"slices"
 	"strconv"
 	"strings"
@@ -113,38 +112,4 @@ func expectMissing(t *testing.T, name string, s api.Store, l []api.Head, want ..
 	if !isList(s.Statements, memory) || !isHeads(l, given) {
 		t.Errorf("%s: an argument has changed", name)
 	}
-}
-
-// tree is what a few authors have ever said: rows, other faces of them that go on, resignations that others follow, statements that follow nothing.
-func tree(r *rand.Rand) []api.Statement {
-	var all []api.Statement
-	for author := me; author < me+4; author++ {
-		row := sample.Row(author, 1+r.Intn(6))
-		all = append(all, row...)
-		last := row[len(row)-1]
-		switch r.Intn(5) {
-		case 0:
-			face := sample.After(row[r.Intn(len(row))], api.KindOther, 50)
-			all = append(all, face, sample.After(face, api.KindOther, 51))
-		case 1:
-			end := sample.After(last, api.KindResign, 0)
-			all = append(all, end, sample.After(end, api.KindOther, 52))
-		case 2:
-			all = append(all, sample.Said(author, 0, 53))
-		case 3:
-			all = append(all, sample.Said(author, last.Number+1+r.Intn(3), 54))
-		}
-	}
-	return all
-}
-
-// part is a store with a part of a list: mostly the beginnings of what each author has said.
-func part(r *rand.Rand, l []api.Statement) api.Store {
-	upTo := make([]int, api.MaxKeys)
-	for i := range upTo {
-		upTo[i] = r.Intn(9)
-	}
-	return sample.Store(slices.DeleteFunc(slices.Clone(l), func(s api.Statement) bool {
-		return s.Number >= upTo[s.Author] || r.Intn(12) == 0
-	}))
 }

@@ -161,8 +161,8 @@ func TestMissingAgainstTheDefinition(t *testing.T) {
 	r := rand.New(rand.NewSource(3))
 	none, some, most := 0, 0, 0
 	for range 400 {
-		all := tree(r)
-		a, b := part(r, all), part(r, all)
+		all := sample.Tree(me, r.Intn)
+		a, b := sample.Part(r.Intn, all), sample.Part(r.Intn, all)
 		l := Of(b)
 		var want []api.Statement
 		for author := range api.MaxKeys {
@@ -226,7 +226,7 @@ func anyHead(r *rand.Rand, author int, all []api.Statement) api.Head {
 func TestMissingForAnyHeads(t *testing.T) {
 	r := rand.New(rand.NewSource(4))
 	for range 400 {
-		s := part(r, tree(r))
+		s := sample.Part(r.Intn, sample.Tree(me, r.Intn))
 		var l []api.Head
 		var want []api.Statement
 		for author := range api.MaxKeys {
@@ -253,7 +253,7 @@ func TestMissingErrors(t *testing.T) {
 			t.Errorf("%s: an argument has changed", name)
 		}
 	}
-	for name, wrong := range wildStores() {
+	for name, wrong := range sample.WildStores() {
 		expect(name, wrong, nil)
 		expect(name, wrong, heads(headOf(false, sample.Row(me, 2))))
 		expect(name, wrong, Of(wrong))

@@ -3,13 +3,13 @@ package vector
 import (
 	"math/rand"
 	"slices"
+	"strconv"
 	"strings"
 	"testing"
 
 	"trustflow/api"
 	"trustflow/chain"
 	"trustflow/sample"
-	"trustflow/statement"
 	"trustflow/store"
 )
 
@@ -100,7 +100,7 @@ func TestHeadsAgainstTheDefinition(t *testing.T) {
 	r := rand.New(rand.NewSource(1))
 	forked, zero := 0, 0
 	for range 300 {
-		s := part(r, tree(r))
+		s := sample.Part(r.Intn, sample.Tree(me, r.Intn))
 		var want []api.Head
 		for author := range api.MaxKeys {
 			if h, ok := definedHead(author, s); ok {
@@ -166,10 +166,10 @@ func faulty() map[string]api.Head {
 		all["height 0, another size"+bytes] = with(whole(me), func(h *api.Head) { h.Height, h.Digest = 0, bytes })
 	}
 	for _, key := range outside {
-		all["a key that is none"+string(rune('a'+key&15))] = whole(key)
+		all["the key "+strconv.Itoa(key)] = whole(key)
 	}
 	for _, height := range outside[2:] {
-		all["a height that is none"+string(rune('a'+height&15))] = with(whole(me), func(h *api.Head) { h.Height = height })
+		all["the height "+strconv.Itoa(height)] = with(whole(me), func(h *api.Head) { h.Height = height })
 	}
 	return all
 }
@@ -265,8 +265,8 @@ func TestHeadsTellStoresApart(t *testing.T) {
 	r := rand.New(rand.NewSource(2))
 	same, different := 0, 0
 	for range 300 {
-		all := tree(r)[:1+r.Intn(4)]
-		a, b := part(r, all), part(r, all)
+		all := sample.Tree(me, r.Intn)[:1+r.Intn(4)]
+		a, b := sample.Part(r.Intn, all), sample.Part(r.Intn, all)
 		equal := isList(a.Statements, b.Statements)
 		if Same(Of(a), Of(b)) != equal {
 			t.Errorf("%s and %s have the heads %s and %s", sample.Brief(a.Statements), sample.Brief(b.Statements), briefHeads(Of(a)), briefHeads(Of(b)))
@@ -282,42 +282,9 @@ func TestHeadsTellStoresApart(t *testing.T) {
 	}
 }
 
-// wildStores are stores that are not valid.
-func wildStores() map[string]api.Store {
-	l := sample.Row(me, 4)
-	bare, forged, far, none := l[1], l[1], l[1], l[1]
-	bare.Seal = api.Seal{}
-	forged.A++
-	far.Number = 1 << 40
-	none.Author = -1
-	faces := list(sample.Said(me, 4, 1), sample.Said(me, 4, 2))
-	slices.SortFunc(faces, sample.Order)
-	var many []api.Statement
-	for i := range api.MaxStatements + 1 {
-		many = append(many, sample.Said(me, 7, i))
-	}
-	slices.SortFunc(many, sample.Order)
-	all := map[string]api.Store{}
-	for name, wrong := range map[string][]api.Statement{
-		"the zero statement":  list(api.Statement{}),
-		"a statement twice":   together(l, l[3:]),
-		"numbers that fall":   list(l[1], l[0]),
-		"digests that fall":   list(faces[1], faces[0]),
-		"authors that fall":   together(l, sample.Row(me-1, 2)),
-		"no seal":             list(l[0], bare, l[2]),
-		"another one's seal":  list(l[0], forged, l[2]),
-		"too great a number":  list(l[0], statement.Seal(far)),
-		"an author that is -": list(statement.Seal(none), l[0]),
-		"too many statements": many,
-	} {
-		all[name] = api.Store{Statements: wrong}
-	}
-	return all
-}
-
 // P1: what is specified for valid stores alone comes to an end for others too, without a panic.
 func TestHeadsOfInvalidStores(t *testing.T) {
-	for name, s := range wildStores() {
+	for name, s := range sample.WildStores() {
 		before := slices.Clone(s.Statements)
 		Of(s)
 		if !isList(s.Statements, before) {
