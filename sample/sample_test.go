@@ -59,3 +59,45 @@ func TestWildStores(t *testing.T) {
 		}
 	}
 }
+
+// Lives count as a whole, and show vouches, some of them for the same key again, revocations and resignations.
+func TestLives(t *testing.T) {
+	r := rand.New(rand.NewSource(2))
+	kinds := map[int]int{}
+	again := 0
+	for range 100 {
+		all := Lives(5, r.Intn)
+		if !slices.EqualFunc(store.Counted(Store(all)), all, statement.Same) {
+			t.Fatalf("not all of %s counts", Brief(all))
+		}
+		keys := map[[2]int]bool{}
+		for _, s := range all {
+			kinds[s.Kind]++
+			p := [2]int{s.Author, s.A}
+			if s.Kind != api.KindVouch {
+				continue
+			}
+			if keys[p] {
+				again++
+			}
+			keys[p] = true
+		}
+	}
+	for kind, least := range map[int]int{api.KindVouch: 500, api.KindRevoke: 200, api.KindResign: 50, api.KindOther: 200} {
+		if kinds[kind] < least {
+			t.Errorf("there are only %d statements of the kind %d", kinds[kind], kind)
+		}
+	}
+	if again < 100 {
+		t.Errorf("only %d vouches are for the same key again", again)
+	}
+}
+
+// What is written is sealed and follows one another, also past a resignation.
+func TestWrite(t *testing.T) {
+	l := Write(7, Vouch(3, 5, 2, 9), Resign(4), Other(4, 5, 2, 9), Revoke(6, 0))
+	b, ok := chain.Branch(7, l, l[3].Seal.Digest)
+	if !ok || !slices.EqualFunc(b, l, statement.Same) || len(chain.Counted(7, l)) != 2 {
+		t.Errorf("%s is not one branch, of which two statements count", Brief(l))
+	}
+}
