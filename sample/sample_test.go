@@ -8,6 +8,7 @@ import (
 	"trustflow/api"
 	"trustflow/chain"
 	"trustflow/fork"
+	"trustflow/graph"
 	"trustflow/statement"
 	"trustflow/store"
 )
@@ -99,5 +100,71 @@ func TestWrite(t *testing.T) {
 	b, ok := chain.Branch(7, l, l[3].Seal.Digest)
 	if !ok || !slices.EqualFunc(b, l, statement.Same) || len(chain.Counted(7, l)) != 2 {
 		t.Errorf("%s is not one branch, of which two statements count", Brief(l))
+	}
+}
+
+// With other faces a store is valid; of these authors at most the first statement counts, if it is the same; what was pinned is there.
+func TestFaces(t *testing.T) {
+	r := rand.New(rand.NewSource(4))
+	for range 20 {
+		s := Store(Lives(6, r.Intn))
+		f := Faces(s, 5)
+		if !store.Valid(f) || store.Height(f, 5) != store.Height(s, 5) {
+			t.Errorf("%s are not faces of %s", Brief(f.Statements), Brief(s.Statements))
+		}
+		for author := range 5 {
+			if store.Height(f, author) > 1 {
+				t.Errorf("of %d in %s too much counts", author, Brief(f.Statements))
+			}
+		}
+		if l, err := store.Pinned(f, store.Pins(s)); err != api.OK || !slices.EqualFunc(l, s.Statements, statement.Same) {
+			t.Errorf("%s are pinned, error %d, in %s", Brief(l), err, Brief(s.Statements))
+		}
+	}
+}
+
+// Graphs are valid and show edges at all levels, in both directions between two keys, and keys that are gone; of no keys there is one graph.
+func TestGraphs(t *testing.T) {
+	r := rand.New(rand.NewSource(3))
+	levels, back, gone := map[int]int{}, 0, 0
+	for range 200 {
+		g := Graph(r.Intn(10), r.Intn(30), r.Intn)
+		if graph.Check(g) != api.OK {
+			t.Fatalf("%v is not valid", g)
+		}
+		gone += len(g.Gone)
+		for _, e := range g.Edges {
+			levels[e.Level]++
+			if slices.Contains(graph.Out(g, e.To), e.From) {
+				back++
+			}
+		}
+	}
+	for level := 1; level <= api.MaxLevel; level++ {
+		if levels[level] < 300 || back < 300 || gone < 80 {
+			t.Errorf("the graphs show too little: %v, %d edges and back, %d gone", levels, back, gone)
+		}
+	}
+	if !graph.Same(Graph(0, 9, r.Intn), api.Graph{}) {
+		t.Errorf("a graph of no keys has edges")
+	}
+}
+
+// As many edges as are asked for are there, up to as many as a graph can have.
+func TestEdges(t *testing.T) {
+	for _, n := range []int{0, 1, 63, 64, 127, api.MaxEdges} {
+		g := api.Graph{Size: api.MaxKeys, Edges: Edges(n, 2)}
+		if graph.Check(g) != api.OK || len(g.Edges) != n {
+			t.Errorf("%v is no graph with %d edges", g, n)
+		}
+	}
+}
+
+// No wild graph is valid.
+func TestWildGraphs(t *testing.T) {
+	for name, g := range WildGraphs() {
+		if graph.Check(g) != api.ErrGraph {
+			t.Errorf("%s: the graph is valid", name)
+		}
 	}
 }

@@ -1,6 +1,9 @@
 package sample
 
 import (
+	"strconv"
+	"strings"
+
 	"trustflow/api"
 	"trustflow/statement"
 )
@@ -36,6 +39,24 @@ func Write(author int, drafts ...api.Statement) []api.Statement {
 		l = append(l, s)
 	}
 	return l
+}
+
+// Faces returns s with another face of each of the authors below a number: it resigns at first, and goes on past that.
+func Faces(s api.Store, authors int) api.Store {
+	for author := range authors {
+		s = Store(s.Statements, Write(author, Resign(0), Vouch(1, author+1, 1, 30)))
+	}
+	return s
+}
+
+// Deeds shows statements: of each one the author, the number, the time, the kind and the numbers that it says.
+func Deeds(l []api.Statement) string {
+	var b strings.Builder
+	for _, s := range l {
+		b.WriteString(" " + strconv.Itoa(s.Author) + "." + strconv.Itoa(s.Number) + "@" + strconv.Itoa(s.Time) + ":" + strconv.Itoa(s.Kind))
+		b.WriteString("(" + strconv.Itoa(s.A) + "," + strconv.Itoa(s.B) + "," + strconv.Itoa(s.C) + ")")
+	}
+	return "[" + b.String() + " ]"
 }
 
 // Lives returns what the authors below a number have said in their lives, by author and number, which all counts: they vouch for one another, often for the same ones again, revoke, say other things, and now and then resign at last. pick(n) chooses a number from 0 to n - 1.

@@ -3,8 +3,6 @@ package vouch
 import (
 	"math"
 	"slices"
-	"strconv"
-	"strings"
 	"testing"
 
 	"trustflow/api"
@@ -25,7 +23,7 @@ func counted(t *testing.T, rows ...[]api.Statement) []api.Statement {
 	s := sample.Store(rows...)
 	l := store.Counted(s)
 	if !store.Valid(s) || !isList(l, s.Statements) {
-		t.Fatalf("%s does not count", brief(s.Statements))
+		t.Fatalf("%s does not count", sample.Deeds(s.Statements))
 	}
 	return l
 }
@@ -38,7 +36,7 @@ func named(t *testing.T, l []api.Statement, names []name) []api.Vouch {
 	for _, n := range names {
 		i := slices.IndexFunc(all, func(v api.Vouch) bool { return v.From == n.from && v.Number == n.number })
 		if i < 0 {
-			t.Fatalf("%s has no vouch %d of %d", brief(l), n.number, n.from)
+			t.Fatalf("%s has no vouch %d of %d", sample.Deeds(l), n.number, n.from)
 		}
 		out = append(out, all[i])
 	}
@@ -48,16 +46,6 @@ func named(t *testing.T, l []api.Statement, names []name) []api.Vouch {
 // isList reports whether two lists are equal.
 func isList(a, b []api.Statement) bool { return slices.EqualFunc(a, b, statement.Same) }
 
-// brief shows statements: of each one the author, the number, the time, the kind and what it says.
-func brief(l []api.Statement) string {
-	var b strings.Builder
-	for _, s := range l {
-		b.WriteString(" " + strconv.Itoa(s.Author) + "." + strconv.Itoa(s.Number) + "@" + strconv.Itoa(s.Time) + ":" + strconv.Itoa(s.Kind))
-		b.WriteString("(" + strconv.Itoa(s.A) + "," + strconv.Itoa(s.B) + "," + strconv.Itoa(s.C) + ")")
-	}
-	return "[" + b.String() + " ]"
-}
-
 // expectKept calls a function of a list, behind which somebody else's statements stand, and asserts that it changes nothing of this.
 func expectKept(t *testing.T, l []api.Statement, f func(l []api.Statement)) {
 	t.Helper()
@@ -65,7 +53,7 @@ func expectKept(t *testing.T, l []api.Statement, f func(l []api.Statement)) {
 	before := slices.Clone(whole)
 	f(whole[:len(l)])
 	if !isList(whole, before) {
-		t.Errorf("%s has been changed", brief(l))
+		t.Errorf("%s has been changed", sample.Deeds(l))
 	}
 }
 
@@ -74,7 +62,7 @@ func expectOf(t *testing.T, l []api.Statement, want []api.Vouch) {
 	t.Helper()
 	expectKept(t, l, func(l []api.Statement) {
 		if got := Of(l); !slices.Equal(got, want) {
-			t.Errorf("the vouches of %s are %v, want %v", brief(l), got, want)
+			t.Errorf("the vouches of %s are %v, want %v", sample.Deeds(l), got, want)
 		}
 	})
 }
@@ -84,7 +72,7 @@ func expectGone(t *testing.T, l []api.Statement, time int, want []int) {
 	t.Helper()
 	expectKept(t, l, func(l []api.Statement) {
 		if got := Gone(l, time); !slices.Equal(got, want) {
-			t.Errorf("at %d %v have resigned in %s, want %v", time, got, brief(l), want)
+			t.Errorf("at %d %v have resigned in %s, want %v", time, got, sample.Deeds(l), want)
 		}
 	})
 }
@@ -94,7 +82,7 @@ func expectActive(t *testing.T, l []api.Statement, time int, want []api.Vouch) {
 	t.Helper()
 	expectKept(t, l, func(l []api.Statement) {
 		if got := Active(l, time); !slices.Equal(got, want) {
-			t.Errorf("at %d %v hold in %s, want %v", time, got, brief(l), want)
+			t.Errorf("at %d %v hold in %s, want %v", time, got, sample.Deeds(l), want)
 		}
 	})
 }
@@ -104,7 +92,7 @@ func expectBetween(t *testing.T, l []api.Statement, from, to, time int, want api
 	t.Helper()
 	expectKept(t, l, func(l []api.Statement) {
 		if got, ok := Between(l, from, to, time); got != want || ok != wantOK {
-			t.Errorf("at %d %v, %t holds from %d to %d in %s, want %v, %t", time, got, ok, from, to, brief(l), want, wantOK)
+			t.Errorf("at %d %v, %t holds from %d to %d in %s, want %v, %t", time, got, ok, from, to, sample.Deeds(l), want, wantOK)
 		}
 	})
 }

@@ -151,7 +151,7 @@ func TestAnyList(t *testing.T) {
 		expectKept(t, l, func(l []api.Statement) {
 			all, active, gone := Of(l), Active(l, time), Gone(l, time)
 			if len(active) > len(all) || !slices.IsSorted(gone) {
-				t.Errorf("%v hold and %v are gone in %s", active, gone, brief(l))
+				t.Errorf("%v hold and %v are gone in %s", active, gone, sample.Deeds(l))
 			}
 			Between(l, 0, 7, time)
 		})
@@ -204,7 +204,7 @@ func TestOnceOver(t *testing.T) {
 			active := Active(l, time)
 			for _, v := range active {
 				if p := [2]int{v.From, v.To}; pairs[p] || over[name{v.From, v.Number}] || v.Time > time || v.End <= time {
-					t.Errorf("%v holds at %d in %s", v, time, brief(l))
+					t.Errorf("%v holds at %d in %s", v, time, sample.Deeds(l))
 				} else {
 					pairs[p] = true
 				}
@@ -233,9 +233,7 @@ func TestPinned(t *testing.T) {
 		l := sample.Lives(5, r.Intn)
 		s := sample.Store(l)
 		pins := store.Pins(s)
-		for author := range 5 {
-			s = sample.Store(s.Statements, sample.Write(author, sample.Resign(0), sample.Vouch(1, author+1, 1, 30)))
-		}
+		s = sample.Faces(s, 5)
 		pinned, err := store.Pinned(s, pins)
 		if err != api.OK || len(store.Counted(s)) > 10 {
 			t.Fatalf("the error is %d, and of %d authors something counts", err, len(store.Counted(s)))
