@@ -65,6 +65,15 @@ func WildGraphs() map[string]api.Graph {
 	}
 }
 
+// Keeps calls f with a copy of g, behind whose lists there is room with somebody else's numbers, and reports whether f changes none of this.
+func Keeps(g api.Graph, f func(g api.Graph)) bool {
+	edges := append(slices.Clone(g.Edges), api.Edge{From: -7, To: -7, Level: -7}, api.Edge{From: -8, To: -8, Level: -8})
+	gone := append(slices.Clone(g.Gone), -7, -8)
+	edgesBefore, goneBefore := slices.Clone(edges), slices.Clone(gone)
+	f(api.Graph{Size: g.Size, Edges: edges[:len(g.Edges)], Gone: gone[:len(g.Gone)]})
+	return slices.Equal(edges, edgesBefore) && slices.Equal(gone, goneBefore)
+}
+
 // byKeys compares edges as they are ordered in a graph.
 func byKeys(a, b api.Edge) int {
 	return cmp.Or(cmp.Compare(a.From, b.From), cmp.Compare(a.To, b.To))

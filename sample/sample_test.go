@@ -168,3 +168,28 @@ func TestWildGraphs(t *testing.T) {
 		}
 	}
 }
+
+// What changes an element of a graph, or what stands behind its lists, does not keep it; what changes its own lists alone does, and gets the graph itself.
+func TestKeeps(t *testing.T) {
+	g := api.Graph{Size: 4, Edges: Edges(2, 1), Gone: []int{3}}
+	for name, change := range map[string]func(g api.Graph){
+		"an edge":         func(g api.Graph) { g.Edges[1].Level = 2 },
+		"a gone key":      func(g api.Graph) { g.Gone[0] = 2 },
+		"behind the list": func(g api.Graph) { _ = append(g.Edges, api.Edge{}) },
+		"behind the keys": func(g api.Graph) { _ = append(g.Gone, 4) },
+	} {
+		if Keeps(g, change) {
+			t.Errorf("%s: the change was not noticed", name)
+		}
+	}
+	same := false
+	if !Keeps(g, func(h api.Graph) {
+		same = graph.Same(g, h)
+		h.Edges, h.Gone, h.Size = nil, nil, 0
+	}) || !same {
+		t.Errorf("%v was changed, or was another one", g)
+	}
+	if !graph.Same(g, api.Graph{Size: 4, Edges: Edges(2, 1), Gone: []int{3}}) {
+		t.Errorf("%v itself has been changed", g)
+	}
+}
