@@ -66,13 +66,13 @@ func TestSizes(t *testing.T) {
 	}
 	expect(t, api.Graph{Size: 1}, []int{0}, []int{0}, []int{0})
 	expect(t, api.Graph{Size: 1}, nil, []int{-1}, nil)
-	expect(t, api.Graph{Size: api.MaxKeys}, numbers(api.MaxKeys), make([]int, api.MaxKeys), numbers(api.MaxKeys))
+	expect(t, api.Graph{Size: api.MaxKeys}, sample.Numbers(api.MaxKeys), make([]int, api.MaxKeys), sample.Numbers(api.MaxKeys))
 	expect(t, api.Graph{Size: api.MaxKeys}, nil, none(api.MaxKeys), nil)
-	expect(t, line(api.MaxKeys), []int{0}, numbers(api.MaxKeys), numbers(api.MaxKeys))
-	expectWay(t, line(api.MaxKeys), []int{0}, api.MaxKeys-1, numbers(api.MaxKeys)...)
+	expect(t, sample.Line(api.MaxKeys), []int{0}, sample.Numbers(api.MaxKeys), sample.Numbers(api.MaxKeys))
+	expectWay(t, sample.Line(api.MaxKeys), []int{0}, api.MaxKeys-1, sample.Numbers(api.MaxKeys)...)
 	full := api.Graph{Size: api.MaxKeys, Edges: sample.Edges(api.MaxEdges, 1)}
 	want := append([]int{1, 0}, slices.Repeat([]int{1}, api.MaxKeys-2)...)
-	expect(t, full, []int{1}, want, append([]int{1, 0}, numbers(api.MaxKeys)[2:]...))
+	expect(t, full, []int{1}, want, append([]int{1, 0}, sample.Numbers(api.MaxKeys)[2:]...))
 	expectWay(t, full, []int{1}, api.MaxKeys-1, 1, api.MaxKeys-1)
 }
 
@@ -110,9 +110,9 @@ func TestGone(t *testing.T) {
 		expectNoWay(t, g, seeds, 3)
 	}
 	expectWay(t, g, []int{0, 1, 3}, 5, 1, 2, 5)
-	all := without(api.Graph{Size: api.MaxKeys}, numbers(api.MaxKeys)...)
-	expect(t, all, numbers(api.MaxKeys), none(api.MaxKeys), nil)
-	expectNoWay(t, all, numbers(api.MaxKeys), 63)
+	all := without(api.Graph{Size: api.MaxKeys}, sample.Numbers(api.MaxKeys)...)
+	expect(t, all, sample.Numbers(api.MaxKeys), none(api.MaxKeys), nil)
+	expectNoWay(t, all, sample.Numbers(api.MaxKeys), 63)
 }
 
 // P12.2: fewer edges come before lesser keys.
@@ -157,20 +157,20 @@ func TestNoWay(t *testing.T) {
 	for _, key := range far {
 		if key < 0 || key >= 7 {
 			expectNoWay(t, g, []int{1, key}, key)
-			expectNoWay(t, g, numbers(7), key)
+			expectNoWay(t, g, sample.Numbers(7), key)
 		}
 		expectNoWay(t, g, nil, key)
 	}
-	expectNoWay(t, api.Graph{Size: api.MaxKeys}, numbers(api.MaxKeys), api.MaxKeys)
+	expectNoWay(t, api.Graph{Size: api.MaxKeys}, sample.Numbers(api.MaxKeys), api.MaxKeys)
 }
 
 // R1, R2: each call returns the same, whatever others were asked in between.
 func TestAgain(t *testing.T) {
 	for range 3 {
-		expect(t, line(5), []int{1}, []int{-1, 0, 1, 2, 3}, []int{1, 2, 3, 4})
-		expectWay(t, line(5), []int{1}, 3, 1, 2, 3)
+		expect(t, sample.Line(5), []int{1}, []int{-1, 0, 1, 2, 3}, []int{1, 2, 3, 4})
+		expectWay(t, sample.Line(5), []int{1}, 3, 1, 2, 3)
 		expect(t, steps(3, [2]int{2, 0}), []int{2}, []int{1, -1, 0}, []int{2, 0})
-		expectNoWay(t, line(5), []int{4}, 3)
+		expectNoWay(t, sample.Line(5), []int{4}, 3)
 	}
 }
 

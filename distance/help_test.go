@@ -29,24 +29,6 @@ func without(g api.Graph, gone ...int) api.Graph {
 	return g
 }
 
-// line is the graph of so many keys with an edge from each key to the next one.
-func line(size int) api.Graph {
-	g := api.Graph{Size: size}
-	for key := 1; key < size; key++ {
-		g.Edges = append(g.Edges, api.Edge{From: key - 1, To: key, Level: 1})
-	}
-	return g
-}
-
-// numbers are the numbers from 0 to n - 1.
-func numbers(n int) []int {
-	var l []int
-	for i := range n {
-		l = append(l, i)
-	}
-	return l
-}
-
 // none is so many times -1.
 func none(n int) []int { return slices.Repeat([]int{-1}, n) }
 
@@ -61,12 +43,11 @@ func valid(t *testing.T, g api.Graph) {
 // kept calls a function of a graph and seeds, behind which there is room with somebody else's numbers, and asserts that it changes none of this.
 func kept(t *testing.T, g api.Graph, seeds []int, f func(g api.Graph, seeds []int)) {
 	t.Helper()
-	all := append(slices.Clone(seeds), 0, 1)
-	before := slices.Clone(all)
-	if !sample.Keeps(g, func(g api.Graph) { f(g, all[:len(seeds)]) }) {
+	keepsSeeds := false
+	if !sample.Keeps(g, func(g api.Graph) { keepsSeeds = sample.KeepsNumbers(seeds, func(seeds []int) { f(g, seeds) }) }) {
 		t.Errorf("%v has been changed", g)
 	}
-	if !slices.Equal(all, before) {
+	if !keepsSeeds {
 		t.Errorf("the seeds %v have been changed", seeds)
 	}
 }

@@ -18,7 +18,7 @@ func TestValid(t *testing.T) {
 		"one key, gone":              {Size: 1, Gone: []int{0}},
 		"all keys":                   {Size: api.MaxKeys},
 		"all keys, the last one":     {Size: api.MaxKeys, Edges: []api.Edge{edge(0, 63, 1), edge(63, 0, 1), edge(63, 62, 1)}},
-		"all keys, all gone":         {Size: api.MaxKeys, Gone: numbers(api.MaxKeys)},
+		"all keys, all gone":         {Size: api.MaxKeys, Gone: sample.Numbers(api.MaxKeys)},
 		"the greatest number":        full(api.MaxEdges),
 		"all levels":                 graph(edge(0, 1, 1), edge(0, 2, 2), edge(0, 4, 3)),
 		"there and back":             graph(edge(0, 1, 1), edge(1, 0, 1)),
@@ -104,7 +104,7 @@ func TestEnds(t *testing.T) {
 		}
 		expectEnds(t, api.Graph{}, key, nil, nil)
 	}
-	expectEnds(t, full(api.MaxEdges), 1, append([]int{0}, numbers(api.MaxKeys)[2:]...), []int{0, 2, 3, 4, 5, 6, 7})
+	expectEnds(t, full(api.MaxEdges), 1, append([]int{0}, sample.Numbers(api.MaxKeys)[2:]...), []int{0, 2, 3, 4, 5, 6, 7})
 }
 
 // P11.3: the edges of a level and of those above it are left, and the size and the keys that are gone.
@@ -307,13 +307,4 @@ func TestAnyGraph(t *testing.T) {
 			expectNotWithout(t, "any graph", g, number(), number(), want)
 		}
 	}
-}
-
-// numbers are the numbers from 0 to n - 1.
-func numbers(n int) []int {
-	var l []int
-	for i := range n {
-		l = append(l, i)
-	}
-	return l
 }

@@ -40,6 +40,25 @@ func Edges(n, level int) []api.Edge {
 	return l
 }
 
+// Joined returns the graph of a size with edges, each one given by its ends and its level, in any order.
+func Joined(size int, edges ...[3]int) api.Graph {
+	g := api.Graph{Size: size}
+	for _, e := range edges {
+		g.Edges = append(g.Edges, api.Edge{From: e[0], To: e[1], Level: e[2]})
+	}
+	slices.SortFunc(g.Edges, byKeys)
+	return g
+}
+
+// Line returns the graph of a size with an edge from each key to the next one, at level 1.
+func Line(size int) api.Graph {
+	g := api.Graph{Size: size}
+	for key := 1; key < size; key++ {
+		g.Edges = append(g.Edges, api.Edge{From: key - 1, To: key, Level: 1})
+	}
+	return g
+}
+
 // WildGraphs returns graphs that are not valid, each for one reason.
 func WildGraphs() map[string]api.Graph {
 	a, b, c := api.Edge{From: 0, To: 1, Level: 1}, api.Edge{From: 0, To: 2, Level: 2}, api.Edge{From: 1, To: 0, Level: 3}

@@ -1,4 +1,4 @@
-// Package sample makes statements, stores and graphs for the tests of the layers from 6 on. No layer calls it.
+// Package sample makes statements, stores, graphs and policies for the tests of the layers from 6 on. No layer calls it.
 package sample
 
 import (

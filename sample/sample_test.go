@@ -6,6 +6,7 @@ import (
 	"testing"
 
 	"trustflow/api"
+	"trustflow/capacity"
 	"trustflow/chain"
 	"trustflow/fork"
 	"trustflow/graph"
@@ -191,5 +192,78 @@ func TestKeeps(t *testing.T) {
 	}
 	if !graph.Same(g, api.Graph{Size: 4, Edges: Edges(2, 1), Gone: []int{3}}) {
 		t.Errorf("%v itself has been changed", g)
+	}
+}
+
+// What is joined is a valid graph, whatever the order of its edges; a line is a graph in which each key has the next one.
+func TestJoined(t *testing.T) {
+	g := Joined(4, [3]int{2, 0, 3}, [3]int{0, 3, 1}, [3]int{0, 1, 2})
+	if graph.Check(g) != api.OK || !graph.Same(g, api.Graph{Size: 4, Edges: []api.Edge{{From: 0, To: 1, Level: 2}, {From: 0, To: 3, Level: 1}, {From: 2, To: 0, Level: 3}}}) {
+		t.Errorf("%v is joined", g)
+	}
+	if !graph.Same(Line(3), Joined(3, [3]int{0, 1, 1}, [3]int{1, 2, 1})) || !graph.Same(Line(0), Joined(0)) {
+		t.Errorf("%v and %v are lines", Line(3), Line(0))
+	}
+}
+
+// Policies are valid and show one seed and several, short and long tables, and all levels.
+func TestPolicies(t *testing.T) {
+	r := rand.New(rand.NewSource(5))
+	seeds, lengths, levels, first := map[int]int{}, map[int]int{}, map[int]int{}, map[int]int{}
+	for range 1000 {
+		size := 1 + r.Intn(10)
+		p := Policy(size, r.Intn)
+		if capacity.Check(api.Graph{Size: size}, p) != api.OK {
+			t.Fatalf("%v is not valid for %d keys", p, size)
+		}
+		seeds[len(p.Seeds)]++
+		lengths[len(p.Table)]++
+		levels[p.Level]++
+		first[p.Table[0]]++
+	}
+	for n := 1; n <= 3; n++ {
+		if seeds[n] < 50 || levels[n] < 200 || first[n] < 50 {
+			t.Errorf("the policies show too little: %v, %v, %v", seeds, levels, first)
+		}
+	}
+	for length := 1; length <= api.MaxTable; length++ {
+		if lengths[length] < 50 {
+			t.Errorf("only %d tables have the length %d", lengths[length], length)
+		}
+	}
+}
+
+// No wild policy is valid for graphs of 4 keys.
+func TestWildPolicies(t *testing.T) {
+	for name, p := range WildPolicies() {
+		if capacity.Check(api.Graph{Size: 4}, p) != api.ErrPolicy {
+			t.Errorf("%s: the policy is valid", name)
+		}
+	}
+}
+
+// What changes a number, or what stands behind numbers, does not keep them; what changes its own list alone does, and gets the same ones.
+func TestKeepsNumbers(t *testing.T) {
+	p := api.Policy{Seeds: Numbers(2), Table: []int{3, 2}, Level: 3}
+	for name, change := range map[string]func(l []int){
+		"a number":        func(l []int) { l[1] = 0 },
+		"behind the list": func(l []int) { _ = append(l, 2) },
+	} {
+		if KeepsNumbers(p.Seeds, change) {
+			t.Errorf("%s: the change was not noticed", name)
+		}
+		if KeepsPolicy(p, func(p api.Policy) { change(p.Seeds) }) || KeepsPolicy(p, func(p api.Policy) { change(p.Table) }) {
+			t.Errorf("%s: the change of a policy was not noticed", name)
+		}
+	}
+	same := false
+	if !KeepsPolicy(p, func(q api.Policy) {
+		same = slices.Equal(p.Seeds, q.Seeds) && slices.Equal(p.Table, q.Table) && p.Level == q.Level
+		q.Seeds, q.Table, q.Level = nil, nil, 0
+	}) || !same {
+		t.Errorf("%v was changed, or was another one", p)
+	}
+	if !slices.Equal(p.Seeds, []int{0, 1}) || !slices.Equal(p.Table, []int{3, 2}) {
+		t.Errorf("%v itself has been changed", p)
 	}
 }
