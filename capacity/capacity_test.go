@@ -38,7 +38,7 @@ func TestValid(t *testing.T) {
 		"the greatest level":   at(policy([]int{3}, 0), api.MaxLevel),
 	} {
 		expectCheck(t, name, g, p, api.OK)
-		expectCheck(t, name, without(g, 0, 1, 2, 3), p, api.OK)
+		expectCheck(t, name, sample.Leave(g, 0, 1, 2, 3), p, api.OK)
 		expectCheck(t, name, api.Graph{Size: api.MaxKeys, Edges: sample.Edges(api.MaxEdges, 1)}, p, api.OK)
 	}
 	expectCheck(t, "one key", api.Graph{Size: 1}, policy([]int{1}, 0), api.OK)
@@ -50,7 +50,7 @@ func TestNotValid(t *testing.T) {
 	g := sample.Joined(4, [3]int{0, 1, 1}, [3]int{1, 3, 2})
 	for name, p := range sample.WildPolicies() {
 		expectCheck(t, name, g, p, api.ErrPolicy)
-		expectCheck(t, name, without(g, 2), p, api.ErrPolicy)
+		expectCheck(t, name, sample.Leave(g, 2), p, api.ErrPolicy)
 	}
 	expectCheck(t, "the zero policy", g, api.Policy{}, api.ErrPolicy)
 	expectCheck(t, "a seed of no keys", api.Graph{}, policy([]int{1}, 0), api.ErrPolicy)
@@ -145,7 +145,7 @@ func TestLevels(t *testing.T) {
 
 // P13.1: keys that are gone have no capacity, seeds neither.
 func TestGone(t *testing.T) {
-	g := without(sample.Joined(5, [3]int{1, 3, 1}), 0, 4)
+	g := sample.Leave(sample.Joined(5, [3]int{1, 3, 1}), 0, 4)
 	expectAll(t, g, policy([]int{5, 3}, 0, 1), 0, 5, 0, 3, 0)
 	expectAll(t, g, policy([]int{5, 3}, 0, 4), 0, 0, 0, 0, 0)
 	expectBound(t, g, policy([]int{5, 3}, 0, 1), 0, 0, 4)

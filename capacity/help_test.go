@@ -23,22 +23,10 @@ func at(p api.Policy, level int) api.Policy {
 	return p
 }
 
-// without is g with keys that are gone.
-func without(g api.Graph, gone ...int) api.Graph {
-	g.Gone = gone
-	return g
-}
-
 // kept calls a function of a graph, a policy and keys, and asserts that it changes none of these.
 func kept(t *testing.T, g api.Graph, p api.Policy, keys []int, f func(g api.Graph, p api.Policy, keys []int)) {
 	t.Helper()
-	keepsPolicy, keepsKeys := false, false
-	keepsGraph := sample.Keeps(g, func(g api.Graph) {
-		keepsPolicy = sample.KeepsPolicy(p, func(p api.Policy) {
-			keepsKeys = sample.KeepsNumbers(keys, func(keys []int) { f(g, p, keys) })
-		})
-	})
-	if !keepsGraph || !keepsPolicy || !keepsKeys {
+	if !sample.KeepsAll(g, p, keys, f) {
 		t.Errorf("%v, %v or %v has been changed", g, p, keys)
 	}
 }

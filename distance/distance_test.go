@@ -100,7 +100,7 @@ func TestSeeds(t *testing.T) {
 
 // Both promises: keys that are gone are not reached, also if they are seeds.
 func TestGone(t *testing.T) {
-	g := without(steps(6, [2]int{1, 2}, [2]int{2, 5}), 0, 3)
+	g := sample.Leave(steps(6, [2]int{1, 2}, [2]int{2, 5}), 0, 3)
 	expect(t, g, []int{1}, []int{-1, 0, 1, -1, -1, 2}, []int{1, 2, 5})
 	expect(t, g, []int{0, 1, 3}, []int{-1, 0, 1, -1, -1, 2}, []int{1, 2, 5})
 	expect(t, g, []int{3, 4}, []int{-1, -1, -1, -1, 0, -1}, []int{4})
@@ -110,7 +110,7 @@ func TestGone(t *testing.T) {
 		expectNoWay(t, g, seeds, 3)
 	}
 	expectWay(t, g, []int{0, 1, 3}, 5, 1, 2, 5)
-	all := without(api.Graph{Size: api.MaxKeys}, sample.Numbers(api.MaxKeys)...)
+	all := sample.Leave(api.Graph{Size: api.MaxKeys}, sample.Numbers(api.MaxKeys)...)
 	expect(t, all, sample.Numbers(api.MaxKeys), none(api.MaxKeys), nil)
 	expectNoWay(t, all, sample.Numbers(api.MaxKeys), 63)
 }
@@ -150,7 +150,7 @@ func TestWayIsLeast(t *testing.T) {
 
 // P12.2: nothing and false for keys that the graph does not have, and for those to which no way leads.
 func TestNoWay(t *testing.T) {
-	g := without(steps(7, [2]int{1, 2}, [2]int{3, 1}, [2]int{4, 5}, [2]int{5, 4}), 6)
+	g := sample.Leave(steps(7, [2]int{1, 2}, [2]int{3, 1}, [2]int{4, 5}, [2]int{5, 4}), 6)
 	for _, key := range []int{0, 3, 4, 5, 6, 7, 63, 64, -1} {
 		expectNoWay(t, g, []int{1}, key)
 	}

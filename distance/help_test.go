@@ -23,12 +23,6 @@ func steps(size int, pairs ...[2]int) api.Graph {
 	return g
 }
 
-// without is g with keys that are gone.
-func without(g api.Graph, gone ...int) api.Graph {
-	g.Gone = gone
-	return g
-}
-
 // none is so many times -1.
 func none(n int) []int { return slices.Repeat([]int{-1}, n) }
 

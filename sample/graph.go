@@ -59,6 +59,12 @@ func Line(size int) api.Graph {
 	return g
 }
 
+// Leave returns g with keys that are gone; its edges stay.
+func Leave(g api.Graph, gone ...int) api.Graph {
+	g.Gone = gone
+	return g
+}
+
 // WildGraphs returns graphs that are not valid, each for one reason.
 func WildGraphs() map[string]api.Graph {
 	a, b, c := api.Edge{From: 0, To: 1, Level: 1}, api.Edge{From: 0, To: 2, Level: 2}, api.Edge{From: 1, To: 0, Level: 3}

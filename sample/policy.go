@@ -58,3 +58,14 @@ func KeepsPolicy(p api.Policy, f func(p api.Policy)) bool {
 	})
 	return keepsSeeds && keepsTable
 }
+
+// KeepsAll calls f with copies of a graph, a policy and numbers, behind whose lists there is room with somebody else's numbers, and reports whether f changes none of this.
+func KeepsAll(g api.Graph, p api.Policy, l []int, f func(g api.Graph, p api.Policy, l []int)) bool {
+	keepsPolicy, keepsNumbers := false, false
+	keepsGraph := Keeps(g, func(g api.Graph) {
+		keepsPolicy = KeepsPolicy(p, func(p api.Policy) {
+			keepsNumbers = KeepsNumbers(l, func(l []int) { f(g, p, l) })
+		})
+	})
+	return keepsGraph && keepsPolicy && keepsNumbers
+}

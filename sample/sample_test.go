@@ -267,3 +267,32 @@ func TestKeepsNumbers(t *testing.T) {
 		t.Errorf("%v itself has been changed", p)
 	}
 }
+
+// Who leaves is gone, whatever edges there are, and the graph itself stays as it was.
+func TestLeave(t *testing.T) {
+	g := Line(3)
+	h := Leave(g, 1, 2)
+	if h.Size != 3 || !slices.Equal(h.Edges, g.Edges) || !slices.Equal(h.Gone, []int{1, 2}) || len(g.Gone) != 0 {
+		t.Errorf("with keys that are gone %v is %v", g, h)
+	}
+}
+
+// What changes a graph, a policy or numbers does not keep them all; what changes nothing does, and gets what it was called with.
+func TestKeepsAll(t *testing.T) {
+	g, p, l := Line(3), api.Policy{Seeds: []int{2}, Table: []int{4}, Level: 2}, []int{5}
+	for name, change := range map[string]func(g api.Graph, p api.Policy, l []int){
+		"the graph":   func(g api.Graph, _ api.Policy, _ []int) { g.Edges[0].To = 2 },
+		"the policy":  func(_ api.Graph, p api.Policy, _ []int) { p.Table[0] = 3 },
+		"the numbers": func(_ api.Graph, _ api.Policy, l []int) { l[0] = 6 },
+	} {
+		if KeepsAll(g, p, l, change) {
+			t.Errorf("%s: the change was not noticed", name)
+		}
+	}
+	same := false
+	if !KeepsAll(g, p, l, func(h api.Graph, q api.Policy, m []int) {
+		same = graph.Same(g, h) && slices.Equal(p.Seeds, q.Seeds) && slices.Equal(p.Table, q.Table) && p.Level == q.Level && slices.Equal(l, m)
+	}) || !same {
+		t.Errorf("%v, %v or %v was changed, or was another one", g, p, l)
+	}
+}
